@@ -1,0 +1,1 @@
+"""Eachonce: things covered each just once."""
