@@ -1,6 +1,6 @@
 """The package's files keep to the rules of the language that a look at single rows and nodes can tell.
 
-What needs more than such a look (L11, L15, L18, L19, L23, L24, L26, L28 for the most part) is left to the reader.
+What needs more than such a look (L11, L15, L18, L19, L22, L23, L24, L26, L28 for the most part) is left to the reader.
 """
 
 import ast
