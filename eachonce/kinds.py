@@ -20,3 +20,7 @@ def is_lot(thing, many):
         return False
     # The least and the greatest bound all that stands between them.
     return len(thing) == 0 or (thing[0] >= 0 and thing[-1] < many)
+
+
+def mask_of(lot):
+    return sum([1 << thing for thing in lot])

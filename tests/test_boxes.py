@@ -5,9 +5,9 @@ import itertools
 import unittest
 
 from eachonce.boxes import is_box, musts_of
+from samples import LONGEST, odd_things
 
 WEIGHT_END = 10 ** 12
-LONGEST = 10 ** 60 - 1
 ALL_16 = tuple(range(16))
 
 # A box in which each kind of place is filled; the tests below put odd things there.
@@ -29,34 +29,6 @@ def with_part(thing, way, part):
         return part
     inner = with_part(thing[way[0]], way[1:], part)
     return thing[:way[0]] + (inner,) + thing[way[0] + 1:]
-
-
-def nested(wrap, core, depth):
-    for _ in range(depth):
-        core = wrap(core)
-    return core
-
-
-def deep_things():
-    wraps = (lambda x: [x], lambda x: (x,), lambda x: {0: x}, lambda x: {"k": [x]}, lambda x: ((x,), 0))
-    depths = (60, 60, 60, 30, 30)
-    return [nested(wrap, core, depth - 5) for wrap, depth in zip(wraps, depths) for core in (0, None, ())]
-
-
-def wide_things():
-    return [
-        list(range(9990)), tuple(range(9990)), (0,) * 9990, {number: number for number in range(4900)},
-        (((0,), 0),) * 2400, "0" * 9990,
-    ]
-
-
-def odd_things():
-    """Things that are neither a box nor fit any place of PLAIN."""
-    return [
-        None, LONGEST, -LONGEST, "", "0", "things 0", "\n", [], [0], [[]], [1, (), ()], {}, {0: 0}, {(): ()},
-        {"many": 1}, (None,), ("",), ([],), ({},), ((),), ((), ()), ((), (), ()), (None, None, None), ("", "", ""),
-        ([], [], []), (1, {}, ()), (1, (), {}), (1, "", ""), (1, None, None), (True, False, None),
-    ] + deep_things() + wide_things()
 
 
 class BoxCase(unittest.TestCase):

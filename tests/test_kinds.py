@@ -3,7 +3,7 @@
 import itertools
 import unittest
 
-from eachonce.kinds import is_lot, is_rising, is_whole
+from eachonce.kinds import is_lot, is_rising, is_whole, mask_of
 
 NO_TUPLES = (None, True, 0, 7, "", "01", [], [0, 1], {}, {0: 1})
 
@@ -53,6 +53,10 @@ class Lots(unittest.TestCase):
         for thing in NO_TUPLES:
             with self.subTest(thing=thing):
                 self.assertIs(is_lot(thing, 8), False)
+
+    def test_masks_have_a_bit_for_each_thing(self):
+        for lot, mask in (((), 0), ((0,), 1), ((3,), 8), ((0, 1, 4), 19), (tuple(range(20)), 2 ** 20 - 1)):
+            self.assertEqual(mask_of(lot), mask)
 
 
 if __name__ == "__main__":

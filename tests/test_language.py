@@ -166,6 +166,14 @@ class Names(unittest.TestCase):
         for node, where in each_node(ast.Name):
             self.assertFalse(isinstance(node.ctx, ast.Store) and hasattr(builtins, node.id), where)
 
+    def test_no_parameter_and_no_local_is_called_like_a_class_or_an_import_of_its_file(self):
+        for path in files():
+            nodes = nodes_of(path)
+            taken = {alias.name for node in nodes if isinstance(node, ast.ImportFrom) for alias in node.names}
+            taken |= {node.name for node in nodes if isinstance(node, ast.ClassDef)}
+            others = [node for node in nodes if not isinstance(node, ast.ClassDef)]
+            self.assertEqual(taken & set(names_bound(others)), set(), path.name)
+
     def test_names_of_pythons_own_that_are_read_are_listed(self):
         for node, where in each_node(ast.Name):
             if isinstance(node.ctx, ast.Load) and hasattr(builtins, node.id):
