@@ -24,3 +24,41 @@ def is_lot(thing, many):
 
 def mask_of(lot):
     return sum([1 << thing for thing in lot])
+
+
+def lot_of(mask):
+    return tuple([thing for thing in range(mask.bit_length()) if mask >> thing & 1 == 1])
+
+
+def common_divisor(one, other):
+    while other != 0:
+        rest = one % other
+        one = other
+        other = rest
+    return one
+
+
+def is_fraction(thing):
+    if not isinstance(thing, tuple) or len(thing) != 2:
+        return False
+    if not is_whole(thing[0]) or not is_whole(thing[1]) or thing[1] < 1:
+        return False
+    return common_divisor(abs(thing[0]), thing[1]) == 1
+
+
+def fraction_of(top, bottom):
+    divisor = common_divisor(abs(top), bottom)
+    return (top // divisor, bottom // divisor)
+
+
+def sum_of(fractions):
+    top = 0
+    bottom = 1
+    for fraction in fractions:
+        top = top * fraction[1] + fraction[0] * bottom
+        bottom *= fraction[1]
+    return fraction_of(top, bottom)
+
+
+def is_less(one, other):
+    return one[0] * other[1] < other[0] * one[1]

@@ -3,6 +3,7 @@
 import itertools
 import random
 import time
+from fractions import Fraction
 
 from eachonce.errors import (
     Held, NoCovering, NoDeed, NoOrder, NoPiece, NoRow, NoText, NoThing, NoWeight, OnceError, TooMany,
@@ -40,6 +41,20 @@ def odd_things():
         {"many": 1}, (None,), ("",), ([],), ({},), ((),), ((), ()), ((), (), ()), (None, None, None), ("", "", ""),
         ([], [], []), (1, {}, ()), (1, (), {}), (1, "", ""), (1, None, None), (True, False, None),
     ] + deep_things() + wide_things()
+
+
+NO_FRACTIONS = (
+    (2, 2), (0, 2), (2, 4), (-2, 4), (0, 0), (1, 0), (-1, 0), (1, -1), (-1, -1), (0, -1), (True, 1), (1, True),
+    (False, 1), (1,), (), (1, 1, 1), [1, 1], [0, 1], 1, 0, None, "1", "11", ("1", "1"), {}, {0: 1}, (None, 1),
+    ((0, 1), 1), True, False,
+)
+
+
+def is_fraction_by_words(thing):
+    return (
+        thing.__class__ is tuple and [part.__class__ for part in thing] == [int, int] and thing[1] >= 1
+        and Fraction(*thing).denominator == thing[1]
+    )
 
 
 def rank(box, covering):
