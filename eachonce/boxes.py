@@ -1,4 +1,4 @@
-"""Boxes: what is one, and which of its things are musts."""
+"""Boxes: what is one, which of its things are musts, and the boxes of a part of it."""
 
 from eachonce.kinds import is_lot, is_whole
 
@@ -34,3 +34,13 @@ def is_box(thing):
 def musts_of(box):
     mays = box[1]
     return [thing for thing in range(box[0]) if thing not in mays]
+
+
+def picked(box, things, pieces):
+    # A thing's new number is its place among these; what a piece holds besides them is cut off.
+    places = dict([(thing, place) for place, thing in enumerate(things)])
+
+    def named(lot):
+        return tuple(sorted([places[thing] for thing in lot if thing in places]))
+
+    return (len(things), named(box[1]), tuple([(named(box[2][piece][0]), box[2][piece][1]) for piece in pieces]))

@@ -155,6 +155,30 @@ def big_boxes():
     return [BIG_BLOCKS, BIG_SINGLES, BIG_CROSSED, BIG_RING]
 
 
+def no_lots(many):
+    """What is no rising tuple of numbers from 0 to many less 1, one off for each reason."""
+    wrong = [(-1,), (-many - 1,), (many,), (many + 1,), (LONGEST,), (-LONGEST,), [], [0], {}, {0: 0}, 0, 1, "0", None,
+             True, False, (True,), (False,), (None,), ("0",), ((0,),), ([0],), ((),), ("",), (-1, 0), (0, 0), (1, 1)]
+    numbers = tuple(range(many))
+    if many > 0:
+        wrong += [list(numbers), numbers + (many,), (-1,) + numbers, numbers + (many - 1,), (0,) + numbers,
+                  numbers + (None,), (numbers,), (0, LONGEST)]
+    if many > 1:
+        wrong += [(1, 0), numbers[::-1], (False, 1), (0, True), (False, True), (0, None), (0, "1"), (0, (1,)), (0, [1]),
+                  (0, 1, 1), (0, 1, 0), [0, 1], {0: 1, 1: 1}]
+    return wrong
+
+
+def all_lots(many):
+    """Shorter ones first, those of one length in order."""
+    return [lot for length in range(many + 1) for lot in itertools.combinations(range(many), length)]
+
+
+def share_no_thing(box, some):
+    held = [thing for number in some for thing in box[2][number][0]]
+    return len(held) == len(set(held))
+
+
 def assert_refused(case, kind, call, *handed):
     """The call is refused with this class, which is an OnceError, a ValueError and no other refusal."""
     with case.assertRaises(OnceError) as caught:
