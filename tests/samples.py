@@ -116,6 +116,11 @@ def small_boxes():
     return list(HAND_MADE) + made
 
 
+def few_mays(box):
+    """The box with hardly a may, so that more often there is no covering."""
+    return (box[0], box[1][:1], box[2])
+
+
 def moved(box, things):
     """The box's things numbered from this number on."""
     return tuple([(tuple([thing + things for thing in piece[0]]), piece[1]) for piece in box[2]])
@@ -172,6 +177,15 @@ def no_lots(many):
 def all_lots(many):
     """Shorter ones first, those of one length in order."""
     return [lot for length in range(many + 1) for lot in itertools.combinations(range(many), length)]
+
+
+def least_of(lots):
+    """Those in which no other one is, in the order that they have."""
+    return [lot for lot in lots if not any(other != lot and set(other) <= set(lot) for other in lots)]
+
+
+def drawn_order(chance, count):
+    return tuple(chance.sample(range(count), count))
 
 
 def share_no_thing(box, some):

@@ -11,7 +11,8 @@ from eachonce.coverings import many
 from eachonce.errors import NoThing, TooMany
 from eachonce.papers import paper_of, shown
 from samples import (
-    LONGEST, all_coverings, all_lots, assert_refused, big_boxes, made_box, no_lots, odd_things, small_boxes, soon,
+    LONGEST, all_coverings, all_lots, assert_refused, big_boxes, few_mays, least_of, made_box, no_lots, odd_things,
+    small_boxes, soon,
 )
 
 # Things 1 and 3 are mays.
@@ -42,11 +43,6 @@ def has_covering(box, lot):
     return reached(frozenset())
 
 
-def least_of(lots):
-    """Those in which no other one is, in the order that they have."""
-    return [lot for lot in lots if not any(other != lot and set(other) <= set(lot) for other in lots)]
-
-
 def bars_by_words(box):
     return [lot for lot in all_lots(box[0]) if not has_covering(box, lot)]
 
@@ -56,13 +52,8 @@ def mends_by_words(box):
     return [lot for lot in lots if has_covering(box, tuple([thing for thing in range(box[0]) if thing not in lot]))]
 
 
-def with_few_mays(box):
-    return (box[0], box[1][:1], box[2])
-
-
 def boxes_with_bars():
-    """Small boxes, and the same with hardly a may, so that more of them have bars."""
-    return small_boxes() + [with_few_mays(box) for box in small_boxes() if len(box[1]) > 1]
+    return small_boxes() + [few_mays(box) for box in small_boxes() if len(box[1]) > 1]
 
 
 class Narrowed(unittest.TestCase):
@@ -234,7 +225,7 @@ class LeastLots(unittest.TestCase):
         for longest in (1, 2, 3, 4, 9):
             for pieces in (4, 8, 12, 32):
                 box = made_box(chance, 9, pieces, longest)
-                for inner in (box, with_few_mays(box)):
+                for inner in (box, few_mays(box)):
                     bars, mends = soon(self, least_bars, inner), soon(self, least_mends, inner)
                     kinds.append(len(bars))
                     self.assertEqual(bars, least_of(bars_by_words(inner)))

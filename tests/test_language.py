@@ -1,6 +1,7 @@
 """The package's files keep to the rules of the language that a look at single rows and nodes can tell.
 
-What needs more than such a look (L11, L15, L18, L19, L22, L23, L24, L26, L28 for the most part) is left to the reader.
+What needs more than such a look (L11, L15, L18, L19, L22, L26, L28 and the changes of L23 for the most part) is left to
+the reader.
 """
 
 import ast
@@ -49,6 +50,39 @@ def names_bound(nodes):
     return names
 
 
+def names_of_methods(nodes):
+    classes = [node for node in nodes if isinstance(node, ast.ClassDef)]
+    return [part.name for node in classes for part in node.body if isinstance(part, ast.FunctionDef)]
+
+
+def names_of_values(nodes):
+    return [node.attr for node in nodes if isinstance(node, ast.Attribute) and isinstance(node.ctx, ast.Store)]
+
+
+def drawn_from(path):
+    """The names of the package's files from which this one draws."""
+    return {node.module.split(".")[1] for node in nodes_of(path) if isinstance(node, ast.ImportFrom)}
+
+
+def called_name(node):
+    """The name by which a function or a method of Python's own is called, else None."""
+    if not isinstance(node, ast.Call):
+        return None
+    if isinstance(node.func, ast.Name):
+        return node.func.id
+    return "." + node.func.attr if isinstance(node.func, ast.Attribute) else None
+
+
+def pairs_with_parents():
+    """Each node with the one in which it stands, and where."""
+    pairs = []
+    for path in files():
+        for parent in nodes_of(path):
+            for node in ast.iter_child_nodes(parent):
+                pairs.append((node, parent, f"{path.name}, row {getattr(node, 'lineno', 0)}"))
+    return pairs
+
+
 def names_on_top(path):
     names = []
     for part in ast.parse(path.read_text(encoding="ascii")).body:
@@ -94,6 +128,18 @@ class Files(unittest.TestCase):
             source = PACKAGE / (node.module.split(".")[1] + ".py")
             for alias in node.names:
                 self.assertIn(alias.name, names_on_top(source), where)
+
+    def test_no_two_files_draw_from_one_another(self):
+        drawn = {path.stem: drawn_from(path) for path in files()}
+        while drawn:
+            free = [name for name in drawn if not drawn[name] & set(drawn)]
+            self.assertNotEqual(free, [], f"round about: {sorted(drawn)}")
+            drawn = {name: drawn[name] for name in drawn if name not in free}
+
+    def test_names_on_top_are_bound_once(self):
+        for path in files():
+            names = names_on_top(path)
+            self.assertEqual(sorted(set(names)), sorted(names), path.name)
 
 
 class Nodes(unittest.TestCase):
@@ -150,6 +196,23 @@ class Nodes(unittest.TestCase):
             if isinstance(node.op, ast.Pow):
                 self.assertIn(ast.unparse(node.right), [str(number) for number in range(65)], where)
 
+    def test_what_is_walked_at_once_is_not_kept(self):
+        walked = ("zip", "enumerate", "reversed", "range", ".items", ".keys", ".values")
+        walkers = ("list", "tuple", "dict", "sorted", "sum", "any", "all", "enumerate", "zip", "min", "max", ".join")
+        for node, parent, where in pairs_with_parents():
+            if called_name(node) in walked:
+                # A first thing in a call; in zip and enumerate, which walk at once themselves, any.
+                in_call = called_name(parent) in walkers and (
+                    parent.args[:1] == [node] or called_name(parent) in ("zip", "enumerate"))
+                in_walk = isinstance(parent, (ast.For, ast.comprehension)) and parent.iter is node
+                self.assertTrue(in_call or in_walk, where)
+
+    def test_sets_stand_where_they_are_asked_alone(self):
+        for node, parent, where in pairs_with_parents():
+            if called_name(node) in ("set", "frozenset") or isinstance(node, ast.Set):
+                in_call = called_name(parent) in ("sorted", "len") and parent.keywords == []
+                self.assertTrue(in_call or isinstance(parent, (ast.Compare, ast.BinOp)), where)
+
 
 class Names(unittest.TestCase):
     def test_names_that_are_bound_are_plain(self):
@@ -171,8 +234,20 @@ class Names(unittest.TestCase):
             nodes = nodes_of(path)
             taken = {alias.name for node in nodes if isinstance(node, ast.ImportFrom) for alias in node.names}
             taken |= {node.name for node in nodes if isinstance(node, ast.ClassDef)}
-            others = [node for node in nodes if not isinstance(node, ast.ClassDef)]
+            # A method may be called so.
+            bodies = [node.body for node in nodes if isinstance(node, ast.ClassDef)]
+            methods = [part for body in bodies for part in body]
+            others = [node for node in nodes if not isinstance(node, ast.ClassDef) and node not in methods]
             self.assertEqual(taken & set(names_bound(others)), set(), path.name)
+
+    def test_no_name_is_a_method_of_one_class_and_a_value_of_another(self):
+        nodes = [node for path in files() for node in nodes_of(path)]
+        self.assertEqual(set(names_of_methods(nodes)) & set(names_of_values(nodes)), set())
+        for path in files():
+            for node in nodes_of(path):
+                if isinstance(node, ast.ClassDef):
+                    names = names_of_methods([node])
+                    self.assertEqual(len(names), len(set(names)), path.name)
 
     def test_names_of_pythons_own_that_are_read_are_listed(self):
         for node, where in each_node(ast.Name):

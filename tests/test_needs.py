@@ -10,8 +10,8 @@ from eachonce.coverings import many
 from eachonce.errors import NoPiece
 from eachonce.needs import behind, forced, in_all, in_none
 from samples import (
-    BLOCKS, LONGEST, all_coverings, assert_refused, big_boxes, in_a_row, made_box, no_lots, odd_things, share_no_thing,
-    small_boxes, soon,
+    BLOCKS, LONGEST, all_coverings, assert_refused, big_boxes, few_mays, in_a_row, made_box, no_lots, odd_things,
+    share_no_thing, small_boxes, soon,
 )
 
 PLAIN = (4, (3,), (((0, 1), 5), ((1, 2), -1), ((2,), 7), ((2, 3), 0), ((0, 1, 2, 3), 4), ((3,), 2)))
@@ -22,10 +22,6 @@ NEEDY = (3, (), (((0, 1), 1), ((1, 2), 1), ((2,), 1), ((2,), 1)))
 BIG_NEEDY = in_a_row([NEEDY, (13, tuple(range(13)), tuple([((number % 13,), number) for number in range(28)]))])
 # Behind them.
 BIG_NEEDY_TURNED = in_a_row([(13, tuple(range(13)), tuple([((number % 13,), 1) for number in range(28)])), NEEDY])
-
-
-def few_mays(box):
-    return (box[0], box[1][:1], box[2])
 
 
 def boxes():
