@@ -93,13 +93,10 @@ def hues_of_row(box, musts, row, lead, leads):
     # target, in which this lead does not go, does not.
     numbers = numbers_of_row(musts, row, leads)
     modulus = abs(numbers[row] * lead) if lead != 0 else least_not_dividing(sum(numbers))
-    divisor = modulus
-    for number in numbers:
-        divisor = common_divisor(divisor, abs(number))
     hues = [0] * box[0]
     for must, number in zip(musts, numbers):
-        hues[must] = number % modulus // divisor
-    return (modulus // divisor, tuple(hues))
+        hues[must] = number % modulus
+    return (modulus, tuple(hues))
 
 
 def wholes(box):

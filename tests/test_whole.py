@@ -68,7 +68,8 @@ class Numbers(unittest.TestCase):
             self.assertEqual(many(box), len(coverings))
             self.assertEqual([covering_at(box, number) for number in range(len(coverings))], coverings)
             self.assertEqual([number_of(box, covering) for covering in coverings], list(range(len(coverings))))
-            self.assertEqual([rank_of(box, covering) for covering in coverings], [rank(box, some) for some in coverings])
+            for covering in coverings:
+                self.assertEqual(rank_of(box, covering), rank(box, covering))
             self.assertEqual(first(box), coverings[0] if coverings else None)
             self.assertEqual([next_behind(box, covering) for covering in coverings], (coverings + [None])[1:])
             for number in (-1, len(coverings)):

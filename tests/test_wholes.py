@@ -277,6 +277,26 @@ class Wholes(unittest.TestCase):
                 told = self.check(lots_of_length(things, length, 32, chance))
                 self.assertTrue(told == "hues" or things % length == 0, (things, length))
 
+    def test_musts_that_hang_on_those_ahead_of_them(self):
+        # What an earlier must's pieces have in common counts when a later must is not come by.
+        for lots in (((1, 3, 4), (0, 1, 4), (0, 2, 4), (1, 2)), ((0, 1, 4), (0, 2, 5), (1, 2, 4), (1, 3, 5), (0, 2, 5)),
+                     ((0, 1, 5, 6), (1, 3, 4, 6), (1, 2, 4, 6), (0, 2, 4, 6)),
+                     ((0, 2, 4, 5), (0, 2, 5, 6), (2, 3, 4, 5), (3, 4, 5, 6), (0, 1, 4, 6), (0, 1, 3, 5), (0, 2, 3, 6)),
+                     ((0, 1, 4, 5), (0, 3, 4, 6), (1, 2, 3, 6), (0, 1, 3, 5), (2, 3, 4, 5), (1, 2, 5, 6), (0, 2, 4, 6)),
+                     ((1, 3, 4, 5), (0, 3, 4, 6), (1, 2, 3, 6), (0, 1, 2, 4), (1, 3, 4, 6), (0, 4, 5, 6), (0, 1, 3, 5))
+                     ):
+            things = 1 + max(thing for lot in lots for thing in lot)
+            self.assertEqual(self.check((things, (), tuple([(lot, 0) for lot in lots]))), "hues")
+        chance = random.Random(16)
+        for _ in range(3000):
+            things = chance.randint(4, 8)
+            length = chance.randint(2, min(things, 6))
+            lots = []
+            for _ in range(chance.randint(3, 12)):
+                held = chance.sample(range(things), length if chance.random() < 0.9 else chance.randint(1, things))
+                lots.append(tuple(sorted(held)))
+            self.check((things, (), tuple([(lot, 0) for lot in lots])))
+
     def test_big_boxes(self):
         chance = random.Random(20)
         told = [self.check(box) for box in big_boxes()]
